@@ -1,0 +1,50 @@
+// Package digest: the sum by which a release is known.
+package digest
+
+import (
+	"slices"
+	"strconv"
+	"strings"
+
+	"trellis/api"
+)
+
+const (
+	start  = hash(0xcbf29ce484222325)
+	factor = hash(0x100000001b3)
+	digits = 16
+)
+
+// hash of the bytes so far; it wraps round at 2^64.
+type hash uint64
+
+// Of is the sum of a release.
+func Of(r api.Release) string {
+	h := start.with(r.Path).with(r.Version).with(r.Manifest)
+	for _, file := range inOrder(r.Files) {
+		h = h.with(file.Name).with(file.Data)
+	}
+	return h.text()
+}
+
+// with goes on with a text and the byte 0 that ends it.
+func (h hash) with(text string) hash {
+	for i := range len(text) {
+		h = h.withByte(text[i])
+	}
+	return h.withByte(0)
+}
+
+func (h hash) withByte(b byte) hash { return (h ^ hash(b)) * factor }
+
+func (h hash) text() string {
+	short := strconv.FormatUint(uint64(h), 16)
+	return strings.Repeat("0", digits-len(short)) + short
+}
+
+// inOrder sorts a copy, for the list is the caller's; stably, so that of one name the first stays.
+func inOrder(files []api.File) []api.File {
+	sorted := slices.Clone(files)
+	slices.SortStableFunc(sorted, func(a, b api.File) int { return strings.Compare(a.Name, b.Name) })
+	return slices.CompactFunc(sorted, func(a, b api.File) bool { return a.Name == b.Name })
+}
