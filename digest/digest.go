@@ -27,6 +27,18 @@ func Of(r api.Release) string {
 	return h.text()
 }
 
+// IsSum tells whether a text has the form of a sum.
+func IsSum(text string) bool {
+	for i := range len(text) {
+		if !isDigit(text[i]) {
+			return false
+		}
+	}
+	return len(text) == digits
+}
+
+func isDigit(b byte) bool { return '0' <= b && b <= '9' || 'a' <= b && b <= 'f' }
+
 // with goes on with a text and the byte 0 that ends it.
 func (h hash) with(text string) hash {
 	for i := range len(text) {

@@ -49,3 +49,15 @@ func TestInOrder(t *testing.T) {
 		t.Errorf("P5: in order: %q", got)
 	}
 }
+
+func TestIsSum(t *testing.T) {
+	for text, want := range map[string]bool{
+		"0000000000000000": true, "0123456789abcdef": true, "ffffffffffffffff": true,
+		"": false, "000000000000000": false, "00000000000000000": false,
+		"000000000000000A": false, "000000000000000F": false, "000000000000000g": false, "000000000000000/": false, "000000000000000:": false, "000000000000000`": false, "000000000000000 ": false, "00000000000000\u00e9": false,
+	} {
+		if got := IsSum(text); got != want {
+			t.Errorf("P6: IsSum(%q) = %t", text, got)
+		}
+	}
+}

@@ -2,8 +2,8 @@ package manifests
 
 import (
 	"trellis/api"
+	"trellis/modules"
 	"trellis/paths"
-	"trellis/versions"
 )
 
 // check is the first fault of statements that have their form: of each line first its words, then whether it stands there already.
@@ -42,10 +42,7 @@ func checkWords(line Line) *api.Fault {
 }
 
 func checkModule(path, version string) *api.Fault {
-	if fault := paths.Check(path); fault != nil {
-		return fault
-	}
-	return versions.Check(version)
+	return modules.Check(api.Module{Path: path, Version: version})
 }
 
 func checkReplaced(r Replacement) *api.Fault {

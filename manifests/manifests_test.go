@@ -73,3 +73,16 @@ func TestTokens(t *testing.T) {
 		}
 	}
 }
+
+func TestGather(t *testing.T) {
+	got := Gather([]Line{
+		Module{"m"}, Exclusion{"c", "v1.0.0"}, Requirement{"c", "v2.0.0"},
+		Replacement{"b", "v1.0.0", "e", "v1.1.0"}, Requirement{"b", "v1.0.0"}, Replacement{"b", "", "d", "v1.0.0"}, Exclusion{"a", "v1.0.0"},
+	})
+	if got.Module != (Module{"m"}) ||
+		!slices.Equal(got.Requirements, []Requirement{{"c", "v2.0.0"}, {"b", "v1.0.0"}}) ||
+		!slices.Equal(got.Exclusions, []Exclusion{{"c", "v1.0.0"}, {"a", "v1.0.0"}}) ||
+		!slices.Equal(got.Replacements, []Replacement{{"b", "v1.0.0", "e", "v1.1.0"}, {"b", "", "d", "v1.0.0"}}) {
+		t.Errorf("P6: gathered: %+v", got)
+	}
+}

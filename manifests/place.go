@@ -11,10 +11,10 @@ import (
 type rank int
 
 const (
-	modules rank = iota
-	requirements
-	exclusions
-	replacements
+	moduleRank rank = iota
+	requirementRank
+	exclusionRank
+	replacementRank
 )
 
 // place: where a line stands in the one form. No two lines may have the same one.
@@ -26,14 +26,14 @@ type place struct {
 func placeOf(line Line) place {
 	switch l := line.(type) {
 	case Module:
-		return place{modules, l.Path, ""}
+		return place{moduleRank, l.Path, ""}
 	case Requirement:
 		// Without the version: a path is required only once.
-		return place{requirements, l.Path, ""}
+		return place{requirementRank, l.Path, ""}
 	case Exclusion:
-		return place{exclusions, l.Path, l.Version}
+		return place{exclusionRank, l.Path, l.Version}
 	case Replacement:
-		return place{replacements, l.Path, l.Version}
+		return place{replacementRank, l.Path, l.Version}
 	}
 	return place{}
 }

@@ -58,6 +58,10 @@ func TestCallsTakeAnyTexts(t *testing.T) {
 		tryPrint(t, a)
 		tryPrint(t, "module a\n"+a)
 		tryDigest(t, api.Release{Path: a, Version: b, Manifest: a + b, Files: []api.File{{Name: b, Data: a}, {Name: a, Data: b}}})
+		tryLoad(t, a, []api.Release{{Path: a, Version: b}}, b)
+		tryLoad(t, "module b\nrequire a v1.0.0\n"+b, []api.Release{{Path: a, Version: b, Manifest: a}, {Path: "a", Version: "v1.0.0", Manifest: "module a\n" + a}}, b)
+		tryLoad(t, "module b\nrequire a v1.0.0", []api.Release{{Path: "a", Version: "v1.0.0", Manifest: "module a\n" + b, Files: []api.File{{Name: a, Data: b}}}}, "")
+		tryLoad(t, "module b", nil, "a v0.0.1 0123456789abcdef\n"+a)
 	}
 }
 
@@ -114,11 +118,42 @@ func tryDigest(t *testing.T, r api.Release) {
 	}
 }
 
+func tryLoad(t *testing.T, root string, registry []api.Release, sums string) {
+	t.Helper()
+	before := fmt.Sprintf("%q", registry)
+	build, err := trellis.Load(root, registry, sums)
+	again, errAgain := trellis.Load(root, registry, sums)
+	fault := faultOf(t, err)
+	if build.Sums != again.Sums || !slices.Equal(build.List, again.List) || fault != faultOf(t, errAgain) {
+		t.Errorf("P2: Load(%q, %q, %q) twice: %q, %v; %q, %v", root, registry, sums, build, err, again, errAgain)
+	}
+	if err != nil && (build.Sums != "" || len(build.List) != 0 || err == errAgain) {
+		t.Errorf("P1: Load(%q, %q, %q) = %q, %+v", root, registry, sums, build, fault)
+	}
+	if err == nil {
+		tryLoadAgain(t, root, registry, build)
+	}
+	if after := fmt.Sprintf("%q", registry); after != before {
+		t.Errorf("P2: Load wrote into %s: %s", before, after)
+	}
+}
+
+// tryLoadAgain: with the sums that it answered a Load answers the same.
+func tryLoadAgain(t *testing.T, root string, registry []api.Release, build api.Build) {
+	t.Helper()
+	again, err := trellis.Load(root, registry, build.Sums)
+	if err != nil || build.Sums != again.Sums || !slices.Equal(build.List, again.List) {
+		t.Errorf("P6: Load(%q, %q, %q) = %q, %+v", root, registry, build.Sums, again, faultOf(t, err))
+	}
+}
+
 func TestCallsTakeNothing(t *testing.T) {
 	tryCompare(t, "", "")
 	tryPrint(t, "")
 	tryDigest(t, api.Release{})
-	trellis.Load("", nil, "")
+	tryLoad(t, "", nil, "")
+	tryLoad(t, "module a", nil, "")
+	tryLoad(t, "module a", []api.Release{{}}, "")
 	trellis.Upgrade("", nil, "", "")
 	trellis.Downgrade("", nil, "", "")
 	trellis.Minimize("", nil)
@@ -163,6 +198,12 @@ func TestFaultsAreNew(t *testing.T) {
 		func() error { _, err := trellis.Print("module A"); return err },
 		func() error { _, err := trellis.Print("module a\nrequire b v1"); return err },
 		func() error { _, err := trellis.Print("module a\nrequire b v1.0.0\nrequire b v1.0.0"); return err },
+		func() error { _, err := trellis.Load("module a", nil, "x"); return err },
+		func() error { _, err := trellis.Load("module a\nrequire b v1.0.0", nil, ""); return err },
+		func() error {
+			_, err := trellis.Load("module a\nrequire b v1.0.0", known, "b v1.0.0"+zeros)
+			return err
+		},
 	} {
 		first := call()
 		want := faultOf(t, first)

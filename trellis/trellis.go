@@ -4,7 +4,9 @@ package trellis
 import (
 	"trellis/api"
 	"trellis/digest"
+	"trellis/ledger"
 	"trellis/manifests"
+	"trellis/needs"
 	"trellis/versions"
 )
 
@@ -33,7 +35,24 @@ func Digest(r api.Release) string { return digest.Of(r) }
 
 // Load picks the versions (P6, P7).
 func Load(root string, registry []api.Release, sums string) (api.Build, error) {
-	return api.Build{}, nil
+	lines, err := manifests.Read(root)
+	if err != nil {
+		return api.Build{}, err
+	}
+	known, err := ledger.Read(sums)
+	if err != nil {
+		return api.Build{}, err
+	}
+	parts := manifests.Gather(lines)
+	readings := needs.NewReader(parts, registry).Needed(parts.Requirements)
+	if err := needs.Failing(readings); err != nil {
+		return api.Build{}, err
+	}
+	entries, err := ledger.Merge(known, entriesOf(readings))
+	if err != nil {
+		return api.Build{}, err
+	}
+	return api.Build{List: listOf(needs.Taken(readings)), Sums: ledger.Text(entries)}, nil
 }
 
 // Upgrade requires a version (P8).
