@@ -2,6 +2,9 @@
 package catalog
 
 import (
+	"maps"
+	"slices"
+
 	"trellis/api"
 	"trellis/modules"
 )
@@ -36,4 +39,9 @@ func (c Catalog) Find(name api.Module) (api.Release, bool) {
 		return api.Release{}, false
 	}
 	return c.registry[place], true
+}
+
+// Names of all releases that count, by path, then version.
+func (c Catalog) Names() []api.Module {
+	return slices.SortedFunc(maps.Keys(c.places), modules.Compare)
 }

@@ -1,6 +1,7 @@
 package catalog
 
 import (
+	"slices"
 	"testing"
 
 	"trellis/api"
@@ -28,5 +29,19 @@ func TestFind(t *testing.T) {
 	}
 	if _, found := Of(nil).Find(api.Module{Path: "b", Version: "v1.0.0"}); found {
 		t.Error("P6: something was found in an empty registry")
+	}
+}
+
+func TestNames(t *testing.T) {
+	registry := []api.Release{
+		{Path: "c", Version: "v1.0.0"}, {Path: "b", Version: "v1.10.0"}, {Path: "b", Version: "v1.9.0"}, {Path: "b-c", Version: "v0.1.0"}, {Path: "b/c", Version: "v0.1.0"},
+		{Path: "b", Version: "v1.10.0"}, {Path: "b", Version: "v1.10.0-rc"}, {Path: "B", Version: "v1.0.0"}, {Path: "c", Version: "v1"},
+	}
+	want := []api.Module{{Path: "b", Version: "v1.9.0"}, {Path: "b", Version: "v1.10.0-rc"}, {Path: "b", Version: "v1.10.0"}, {Path: "b-c", Version: "v0.1.0"}, {Path: "b/c", Version: "v0.1.0"}, {Path: "c", Version: "v1.0.0"}}
+	if got := Of(registry).Names(); !slices.Equal(got, want) {
+		t.Errorf("P9: the names %v", got)
+	}
+	if got := Of(nil).Names(); len(got) != 0 {
+		t.Errorf("P9: the names of nothing %v", got)
 	}
 }

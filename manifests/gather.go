@@ -25,3 +25,18 @@ func Gather(lines []Line) Parts {
 	}
 	return parts
 }
+
+// Lines are the parts as one list again.
+func (p Parts) Lines() []Line {
+	lines := []Line{p.Module}
+	for _, r := range p.Requirements {
+		lines = append(lines, r)
+	}
+	for _, e := range p.Exclusions {
+		lines = append(lines, e)
+	}
+	for _, r := range p.Replacements {
+		lines = append(lines, r)
+	}
+	return lines
+}

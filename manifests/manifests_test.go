@@ -86,3 +86,19 @@ func TestGather(t *testing.T) {
 		t.Errorf("P6: gathered: %+v", got)
 	}
 }
+
+func TestLinesOfParts(t *testing.T) {
+	parts := Parts{
+		Module:       Module{"m"},
+		Requirements: []Requirement{{"c", "v2.0.0"}, {"b", "v1.0.0"}},
+		Exclusions:   []Exclusion{{"c", "v1.0.0"}, {"a", "v1.0.0"}},
+		Replacements: []Replacement{{"b", "", "d", "v1.0.0"}},
+	}
+	want := []Line{Module{"m"}, Requirement{"c", "v2.0.0"}, Requirement{"b", "v1.0.0"}, Exclusion{"c", "v1.0.0"}, Exclusion{"a", "v1.0.0"}, Replacement{"b", "", "d", "v1.0.0"}}
+	if got := parts.Lines(); !slices.Equal(got, want) {
+		t.Errorf("P8: the lines %v", got)
+	}
+	if got := (Parts{Module: Module{"m"}}).Lines(); !slices.Equal(got, []Line{Module{"m"}}) {
+		t.Errorf("P8: the lines of a module alone %v", got)
+	}
+}

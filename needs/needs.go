@@ -58,7 +58,7 @@ func addNew(found map[api.Module]int, list []api.Module) []api.Module {
 func needsOf(readings []Reading) []api.Module {
 	var all []api.Module
 	for _, reading := range readings {
-		all = append(all, reading.needs...)
+		all = append(all, reading.Needs...)
 	}
 	return all
 }

@@ -10,6 +10,7 @@ import (
 	"time"
 
 	"trellis/api"
+	"trellis/catalog"
 	"trellis/manifests"
 )
 
@@ -68,7 +69,7 @@ func TestNeeded(t *testing.T) {
 		{"require b v2.0.0\nreplace b => d v1.9.0\nreplace b v2.0.0 => b v1.0.0\nreplace d => z v1.0.0", "b v2.0.0 as b v1.0.0, d v1.9.0 fails 5", "b v2.0.0 as b v1.0.0, d v1.9.0 fails 5"},
 	} {
 		parts := partsOf(t, "module a\n"+c.root)
-		readings := NewReader(parts, registry).Needed(parts.Requirements)
+		readings := NewReader(parts, catalog.Of(registry)).Needed(parts.Requirements)
 		if got := told(readings); got != c.needed {
 			t.Errorf("P6: %q needs %q, want %q", c.root, got, c.needed)
 		}
@@ -107,7 +108,7 @@ func TestReadAtOnce(t *testing.T) {
 		registry = append(registry, api.Release{Path: path, Version: "v1.0.0", Manifest: "module " + path + strings.Repeat("\n", 5*(500-i))})
 	}
 	before := slices.Clone(list)
-	reader := NewReader(manifests.Parts{}, registry)
+	reader := NewReader(manifests.Parts{}, catalog.Of(registry))
 	goroutines := runtime.NumGoroutine()
 	for _, processors := range []int{1, 2, 8} {
 		was := runtime.GOMAXPROCS(processors)

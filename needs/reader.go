@@ -21,12 +21,12 @@ type Reading struct {
 	Module  api.Module  // as it is needed
 	Release api.Release // as it was read, perhaps in its place; empty, if the module fails
 	Fails   api.Kind    // Missing or Broken; 0: it does not fail
-	needs   []api.Module
+	Needs   []api.Module
 }
 
-// NewReader takes the lines of a root and the registry that it sees.
-func NewReader(root manifests.Parts, registry []api.Release) Reader {
-	return Reader{viewFrom(root), catalog.Of(registry)}
+// NewReader takes what a root says and the releases that it sees.
+func NewReader(root manifests.Parts, known catalog.Catalog) Reader {
+	return Reader{viewFrom(root), known}
 }
 
 // readAtOnce reads each module in a goroutine of its own. What comes is sorted, so that nothing hangs on which was quicker.
@@ -60,7 +60,7 @@ func (r Reader) read(m api.Module) Reading {
 	if err != nil || parts.Module.Path != release.Path {
 		return Reading{Module: m, Fails: api.Broken}
 	}
-	return Reading{Module: m, Release: release, needs: r.view.needs(parts.Requirements)}
+	return Reading{Module: m, Release: release, Needs: r.view.needs(parts.Requirements)}
 }
 
 func compareReadings(a, b Reading) int { return modules.Compare(a.Module, b.Module) }

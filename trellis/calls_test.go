@@ -62,6 +62,40 @@ func TestCallsTakeAnyTexts(t *testing.T) {
 		tryLoad(t, "module b\nrequire a v1.0.0\n"+b, []api.Release{{Path: a, Version: b, Manifest: a}, {Path: "a", Version: "v1.0.0", Manifest: "module a\n" + a}}, b)
 		tryLoad(t, "module b\nrequire a v1.0.0", []api.Release{{Path: "a", Version: "v1.0.0", Manifest: "module a\n" + b, Files: []api.File{{Name: a, Data: b}}}}, "")
 		tryLoad(t, "module b", nil, "a v0.0.1 0123456789abcdef\n"+a)
+		tryChanges(t, a, []api.Release{{Path: a, Version: b}}, a, b)
+		tryChanges(t, "module b\nrequire a v1.0.0\n"+b, []api.Release{{Path: a, Version: b, Manifest: a}, {Path: "a", Version: "v1.0.0", Manifest: "module a\n" + a}}, a, b)
+		tryChanges(t, "module b\nrequire a v1.1.0\n"+a, []api.Release{{Path: "a", Version: "v1.1.0", Manifest: "module a\n" + b}, {Path: "a", Version: "v1.0.0", Manifest: "module a\n" + a}}, "a", "v1.0.0")
+	}
+}
+
+// tryChanges: Upgrade, Downgrade and Minimize answer a manifest in its one form or a fault, the same each time, and write into nothing.
+func tryChanges(t *testing.T, root string, registry []api.Release, path, version string) {
+	t.Helper()
+	before := fmt.Sprintf("%q", registry)
+	tryChange(t, "Upgrade", root, func() (string, error) { return trellis.Upgrade(root, registry, path, version) })
+	tryChange(t, "Downgrade", root, func() (string, error) { return trellis.Downgrade(root, registry, path, version) })
+	tryChange(t, "Minimize", root, func() (string, error) { return trellis.Minimize(root, registry) })
+	if after := fmt.Sprintf("%q", registry); after != before {
+		t.Errorf("P2: a change wrote into %s: %s", before, after)
+	}
+}
+
+func tryChange(t *testing.T, name, root string, call func() (string, error)) {
+	t.Helper()
+	text, err := call()
+	again, errAgain := call()
+	fault := faultOf(t, err)
+	if text != again || fault != faultOf(t, errAgain) {
+		t.Errorf("P2: %s of %q twice: %q, %v; %q, %v", name, root, text, err, again, errAgain)
+	}
+	if _, wrong := trellis.Print(root); wrong != nil && fault != faultOf(t, wrong) {
+		t.Errorf("P1: %s of %q: %+v, want its own error %+v", name, root, fault, faultOf(t, wrong))
+	}
+	if err != nil && (text != "" || err == errAgain) {
+		t.Errorf("P1: %s of %q = %q, %+v", name, root, text, fault)
+	}
+	if form, wrong := trellis.Print(text); err == nil && (form != text || wrong != nil) {
+		t.Errorf("P4: %s of %q = %q, which is not the one form", name, root, text)
 	}
 }
 
@@ -154,9 +188,10 @@ func TestCallsTakeNothing(t *testing.T) {
 	tryLoad(t, "", nil, "")
 	tryLoad(t, "module a", nil, "")
 	tryLoad(t, "module a", []api.Release{{}}, "")
-	trellis.Upgrade("", nil, "", "")
-	trellis.Downgrade("", nil, "", "")
-	trellis.Minimize("", nil)
+	tryChanges(t, "", nil, "", "")
+	tryChanges(t, "module a", nil, "", "")
+	tryChanges(t, "module a", nil, "b", "v1.0.0")
+	tryChanges(t, "module a", []api.Release{{}}, "", "")
 	trellis.Packages("", nil, nil, nil)
 }
 
@@ -204,6 +239,11 @@ func TestFaultsAreNew(t *testing.T) {
 			_, err := trellis.Load("module a\nrequire b v1.0.0", known, "b v1.0.0"+zeros)
 			return err
 		},
+		func() error { _, err := trellis.Upgrade("module a", market, "a", "v1.0.0"); return err },
+		func() error { _, err := trellis.Upgrade("module a", market, "b", "v1"); return err },
+		func() error { _, err := trellis.Upgrade("module a", market, "z", "v1.0.0"); return err },
+		func() error { _, err := trellis.Downgrade("module a", market, "r", "v1.0.0"); return err },
+		func() error { _, err := trellis.Minimize("module a\nrequire z v1.0.0", market); return err },
 	} {
 		first := call()
 		want := faultOf(t, first)

@@ -136,9 +136,9 @@ func (w world) needsOf(m api.Module) []api.Module {
 	return w.asked(p.requires)
 }
 
-// needed: in rising order, found by adding until nothing is new.
-func (w world) needed() []api.Module {
-	needed := w.asked(w.requires)
+// needed: if the root has these requirements, in rising order, found by adding until nothing is new.
+func (w world) needed(requires []api.Module) []api.Module {
+	needed := w.asked(requires)
 	for i := 0; i < len(needed); i++ {
 		for _, m := range w.needsOf(needed[i]) {
 			if !slices.Contains(needed, m) {
@@ -159,7 +159,7 @@ func byPathThenVersion(a, b api.Module) int {
 
 // want: what Load must answer with these sums.
 func (w world) want(sums map[api.Module]string) (api.Build, api.Fault) {
-	needed := w.needed()
+	needed := w.needed(w.requires)
 	for _, m := range needed {
 		if p, ok := w.read(m); !ok {
 			return api.Build{}, api.Fault{Kind: api.Missing, Path: m.Path, Version: m.Version}
@@ -264,7 +264,7 @@ func (w world) checkMet(t *testing.T, list []api.Module) {
 func (w world) checkAsked(t *testing.T, list []api.Module) {
 	t.Helper()
 	all := w.asked(w.requires)
-	for _, m := range w.needed() {
+	for _, m := range w.needed(w.requires) {
 		all = append(all, w.needsOf(m)...)
 	}
 	for _, m := range list {

@@ -3,6 +3,8 @@ package trellis
 
 import (
 	"trellis/api"
+	"trellis/catalog"
+	"trellis/changes"
 	"trellis/digest"
 	"trellis/ledger"
 	"trellis/manifests"
@@ -44,7 +46,7 @@ func Load(root string, registry []api.Release, sums string) (api.Build, error) {
 		return api.Build{}, err
 	}
 	parts := manifests.Gather(lines)
-	readings := needs.NewReader(parts, registry).Needed(parts.Requirements)
+	readings := needs.NewReader(parts, catalog.Of(registry)).Needed(parts.Requirements)
 	if err := needs.Failing(readings); err != nil {
 		return api.Build{}, err
 	}
@@ -57,16 +59,24 @@ func Load(root string, registry []api.Release, sums string) (api.Build, error) {
 
 // Upgrade requires a version (P8).
 func Upgrade(root string, registry []api.Release, path, version string) (string, error) {
-	return "", nil
+	return changed(root, func(parts manifests.Parts) ([]manifests.Requirement, error) {
+		return changes.Raised(parts, catalog.Of(registry), api.Module{Path: path, Version: version})
+	})
 }
 
 // Downgrade allows no more than a version (P9).
 func Downgrade(root string, registry []api.Release, path, version string) (string, error) {
-	return "", nil
+	return changed(root, func(parts manifests.Parts) ([]manifests.Requirement, error) {
+		return changes.Lowered(parts, catalog.Of(registry), api.Module{Path: path, Version: version})
+	})
 }
 
 // Minimize requires no more than must be (P10).
-func Minimize(root string, registry []api.Release) (string, error) { return "", nil }
+func Minimize(root string, registry []api.Release) (string, error) {
+	return changed(root, func(parts manifests.Parts) ([]manifests.Requirement, error) {
+		return changes.Thinned(parts, catalog.Of(registry))
+	})
+}
 
 // Packages puts packages in the order in which they are built (P11).
 func Packages(root string, registry []api.Release, files []api.File, from []string) ([]string, error) {
