@@ -2,11 +2,11 @@
 package digest
 
 import (
-	"slices"
 	"strconv"
 	"strings"
 
 	"trellis/api"
+	"trellis/listing"
 )
 
 const (
@@ -21,7 +21,7 @@ type hash uint64
 // Of is the sum of a release.
 func Of(r api.Release) string {
 	h := start.with(r.Path).with(r.Version).with(r.Manifest)
-	for _, file := range inOrder(r.Files) {
+	for _, file := range listing.InOrder(r.Files) {
 		h = h.with(file.Name).with(file.Data)
 	}
 	return h.text()
@@ -52,11 +52,4 @@ func (h hash) withByte(b byte) hash { return (h ^ hash(b)) * factor }
 func (h hash) text() string {
 	short := strconv.FormatUint(uint64(h), 16)
 	return strings.Repeat("0", digits-len(short)) + short
-}
-
-// inOrder sorts a copy, for the list is the caller's; stably, so that of one name the first stays.
-func inOrder(files []api.File) []api.File {
-	sorted := slices.Clone(files)
-	slices.SortStableFunc(sorted, func(a, b api.File) int { return strings.Compare(a.Name, b.Name) })
-	return slices.CompactFunc(sorted, func(a, b api.File) bool { return a.Name == b.Name })
 }

@@ -3,7 +3,6 @@ package digest
 import (
 	"fmt"
 	"hash/fnv"
-	"slices"
 	"testing"
 
 	"trellis/api"
@@ -39,14 +38,6 @@ func TestSumsWithNoughtsAhead(t *testing.T) {
 	}
 	if short == 0 {
 		t.Error("no sum with a nought ahead was tried")
-	}
-}
-
-func TestInOrder(t *testing.T) {
-	files := []api.File{{Name: "b", Data: "1"}, {Name: "a/b", Data: "2"}, {Name: "B", Data: "3"}, {Name: "a", Data: "4"}, {Name: "b", Data: "5"}, {Name: "\xff", Data: "6"}, {Name: "", Data: "7"}, {Name: "a", Data: ""}}
-	want := []api.File{{Name: "", Data: "7"}, {Name: "B", Data: "3"}, {Name: "a", Data: "4"}, {Name: "a/b", Data: "2"}, {Name: "b", Data: "1"}, {Name: "\xff", Data: "6"}}
-	if got := inOrder(files); !slices.Equal(got, want) {
-		t.Errorf("P5: in order: %q", got)
 	}
 }
 

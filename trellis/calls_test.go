@@ -65,6 +65,39 @@ func TestCallsTakeAnyTexts(t *testing.T) {
 		tryChanges(t, a, []api.Release{{Path: a, Version: b}}, a, b)
 		tryChanges(t, "module b\nrequire a v1.0.0\n"+b, []api.Release{{Path: a, Version: b, Manifest: a}, {Path: "a", Version: "v1.0.0", Manifest: "module a\n" + a}}, a, b)
 		tryChanges(t, "module b\nrequire a v1.1.0\n"+a, []api.Release{{Path: "a", Version: "v1.1.0", Manifest: "module a\n" + b}, {Path: "a", Version: "v1.0.0", Manifest: "module a\n" + a}}, "a", "v1.0.0")
+		tryPackages(t, a, []api.Release{{Path: a, Version: b}}, []api.File{{Name: a, Data: b}}, []string{b, a})
+		tryPackages(t, "module b\nrequire a v1.0.0\n"+b, []api.Release{{Path: "a", Version: "v1.0.0", Manifest: "module a\n", Files: []api.File{{Name: b + ".tl", Data: a}}}}, []api.File{{Name: a + ".tl", Data: b}}, []string{"b/" + a, "a/" + b})
+		head := d.text([]string{"import \"", "import \"", "\"\n", "\"\n", "a", "b", "/c", "\n", "//", "import", "\"", " ", "\r", "B"}, 12)
+		tryPackages(t, "module b\nrequire a v1.0.0", []api.Release{{Path: "a", Version: "v1.0.0", Manifest: "module a", Files: []api.File{{Name: ".tl", Data: head}}}}, []api.File{{Name: "x.tl", Data: head}, {Name: "c/x.tl", Data: b}}, []string{"b", "a"})
+	}
+}
+
+// tryPackages: each package is told once, or there is a fault; the same each time; and nothing is written into.
+func tryPackages(t *testing.T, root string, registry []api.Release, files []api.File, from []string) {
+	t.Helper()
+	before := fmt.Sprintf("%q %q %q", registry, files, from)
+	list, err := trellis.Packages(root, registry, files, from)
+	again, errAgain := trellis.Packages(root, registry, files, from)
+	fault := faultOf(t, err)
+	if !slices.Equal(list, again) || fault != faultOf(t, errAgain) {
+		t.Errorf("P2: Packages(%q, %s) twice: %q, %v; %q, %v", root, before, list, err, again, errAgain)
+	}
+	if err != nil && (len(list) != 0 || err == errAgain) {
+		t.Errorf("P1: Packages(%q, %s) = %q, %+v", root, before, list, fault)
+	}
+	if _, wrong := trellis.Load(root, registry, ""); wrong != nil && fault != faultOf(t, wrong) {
+		t.Errorf("P11: Packages(%q, %s): %+v, want the error of Load %+v", root, before, fault, faultOf(t, wrong))
+	}
+	for _, path := range from {
+		if err == nil && !slices.Contains(list, path) {
+			t.Errorf("P11: Packages(%q, %s) = %q, without %q", root, before, list, path)
+		}
+	}
+	if once := slices.Compact(slices.Sorted(slices.Values(list))); len(once) != len(list) {
+		t.Errorf("P11: Packages(%q, %s) = %q, with one twice", root, before, list)
+	}
+	if after := fmt.Sprintf("%q %q %q", registry, files, from); after != before {
+		t.Errorf("P2: Packages wrote into %s: %s", before, after)
 	}
 }
 
@@ -192,7 +225,9 @@ func TestCallsTakeNothing(t *testing.T) {
 	tryChanges(t, "module a", nil, "", "")
 	tryChanges(t, "module a", nil, "b", "v1.0.0")
 	tryChanges(t, "module a", []api.Release{{}}, "", "")
-	trellis.Packages("", nil, nil, nil)
+	tryPackages(t, "", nil, nil, nil)
+	tryPackages(t, "module a", nil, nil, nil)
+	tryPackages(t, "module a", []api.Release{{}}, []api.File{{}}, []string{""})
 }
 
 func TestCallsTakeMuch(t *testing.T) {
@@ -201,6 +236,10 @@ func TestCallsTakeMuch(t *testing.T) {
 	for _, piece := range []string{"(", "\n", " ", "/", "require (\n", "module a\n", ")\n", "a v1.0.0\n"} {
 		tryPrint(t, strings.Repeat(piece, many))
 		tryPrint(t, "module a\nrequire (\n"+strings.Repeat(piece, many))
+	}
+	for _, piece := range []string{"\n", "//\n", "import \"a\"\n", "import \"", "a", "/"} {
+		text := strings.Repeat(piece, many)
+		tryPackages(t, "module a", nil, []api.File{{Name: "x.tl", Data: text}, {Name: text + ".tl"}, {Name: text}}, []string{"a", text})
 	}
 	var lines strings.Builder
 	for i := range many {
@@ -244,6 +283,20 @@ func TestFaultsAreNew(t *testing.T) {
 		func() error { _, err := trellis.Upgrade("module a", market, "z", "v1.0.0"); return err },
 		func() error { _, err := trellis.Downgrade("module a", market, "r", "v1.0.0"); return err },
 		func() error { _, err := trellis.Minimize("module a\nrequire z v1.0.0", market); return err },
+		func() error { _, err := trellis.Packages("module a", nil, nil, []string{"B"}); return err },
+		func() error { _, err := trellis.Packages("module a", nil, nil, []string{"b"}); return err },
+		func() error {
+			_, err := trellis.Packages("module a\nrequire b v1.1.0\nrequire b/c v1.0.0", shelf, nil, []string{"b/c"})
+			return err
+		},
+		func() error {
+			_, err := trellis.Packages("module a", nil, filesOf("x.tl: A"), []string{"a"})
+			return err
+		},
+		func() error {
+			_, err := trellis.Packages("module a", nil, filesOf("x.tl: a"), []string{"a"})
+			return err
+		},
 	} {
 		first := call()
 		want := faultOf(t, first)

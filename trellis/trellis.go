@@ -9,6 +9,7 @@ import (
 	"trellis/ledger"
 	"trellis/manifests"
 	"trellis/needs"
+	"trellis/packages"
 	"trellis/versions"
 )
 
@@ -80,5 +81,14 @@ func Minimize(root string, registry []api.Release) (string, error) {
 
 // Packages puts packages in the order in which they are built (P11).
 func Packages(root string, registry []api.Release, files []api.File, from []string) ([]string, error) {
-	return nil, nil
+	lines, err := manifests.Read(root)
+	if err != nil {
+		return nil, err
+	}
+	parts := manifests.Gather(lines)
+	readings := needs.NewReader(parts, catalog.Of(registry)).Needed(parts.Requirements)
+	if err := needs.Failing(readings); err != nil {
+		return nil, err
+	}
+	return packages.Order(modulesOf(parts.Module.Path, files, needs.Taken(readings)), from)
 }
